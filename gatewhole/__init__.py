@@ -1,0 +1,1 @@
+"""Gatewhole: gates, formulas of them, and which tables they can make."""

@@ -4,6 +4,7 @@ from gatewhole.errors import NoClass, NoGate
 
 CLASSES = ("nought", "one", "turn", "rise", "sum")
 LENGTHS = (2, 4, 8)
+MOST_GATES = 5
 
 # What each input adds to the number of a row where it is True.
 WEIGHTS = (1, 2, 4)
@@ -12,6 +13,13 @@ WEIGHTS = (1, 2, 4)
 def check_gate(gate):
     if len(gate) not in LENGTHS:
         raise NoGate("a gate is a list of 2, 4 or 8 answers")
+
+
+def check_gates(gates):
+    if len(gates) < 1 or len(gates) > MOST_GATES:
+        raise NoGate("gates are a list of 1 to 5 gates")
+    for gate in gates:
+        check_gate(gate)
 
 
 def check_class(word):
@@ -27,6 +35,10 @@ def weights_of(gate):
     return [weight for weight in WEIGHTS if weight < len(gate)]
 
 
+def inputs_of(gate):
+    return len(weights_of(gate))
+
+
 def rows_without(gate, weights):
     return [row for row in range(len(gate)) if (row & weights) == 0]
 
@@ -34,6 +46,15 @@ def rows_without(gate, weights):
 def answer(gate, inputs):
     check_gate(gate)
     return gate[row_of(inputs)]
+
+
+def answers_to(gate, tables):
+    # The gates are checked once, where they are handed in, and not again
+    # at each knot or step that comes here.
+    answers = []
+    for row in range(len(tables[0])):
+        answers.append(gate[row_of([table[row] for table in tables])])
+    return answers
 
 
 def contrary(gate):

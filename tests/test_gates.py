@@ -1,8 +1,6 @@
 """Points 1 to 5 of the document, as far as they speak of gatewhole/gates.py."""
 
-import inspect
 import unittest
-from itertools import product
 
 import helper
 from gatewhole import gates
@@ -10,27 +8,6 @@ from gatewhole.errors import NoClass, NoGate
 
 T = True
 F = False
-
-
-def holds(gate, word):
-    """Whether the gate is in the class, by the class's own sentence in point 4."""
-    many = helper.inputs_of(gate)
-    told = {tuple(inputs): gate[helper.row(inputs)] for inputs in helper.all_inputs(many)}
-    if word == "nought":
-        return told[(F,) * many] is F
-    if word == "one":
-        return told[(T,) * many] is T
-    if word == "turn":
-        return all(told[inputs] != told[tuple(helper.turned(inputs))] for inputs in told)
-    if word == "rise":
-        return not any(told[inputs] and not told[inputs[:place] + (T,) + inputs[place + 1:]]
-                       for inputs in told for place in range(many) if not inputs[place])
-    return any(all(told[inputs] == (odd_among(inputs, chosen) == when_odd) for inputs in told)
-               for chosen in product([F, T], repeat=many) for when_odd in (F, T))
-
-
-def odd_among(inputs, chosen):
-    return len([1 for truth, taken in zip(inputs, chosen) if truth and taken]) % 2 == 1
 
 
 def shows(gate, word, rows):
@@ -69,9 +46,7 @@ class Interface(unittest.TestCase):
                 "classes": ["gate"], "witness": ["gate", "word"]}
         for name, arguments in told.items():
             with self.subTest(name=name):
-                found = inspect.signature(getattr(gates, name)).parameters
-                self.assertEqual(list(found), arguments)
-                self.assertTrue(all(one.default is inspect.Parameter.empty for one in found.values()))
+                self.assertEqual(helper.arguments_of(getattr(gates, name)), arguments)
 
 
 class Answers(unittest.TestCase):
@@ -167,13 +142,13 @@ class Classes(unittest.TestCase):
     def test_each_class_by_its_sentence(self):
         for gate in helper.all_gates():
             for word in helper.WORDS:
-                self.assertIs(gates.is_in(gate, word), holds(gate, word), (gate, word))
+                self.assertIs(gates.is_in(gate, word), helper.holds(gate, word), (gate, word))
 
     def test_classes_in_their_order(self):
         for gate in helper.all_gates():
             told = gates.classes(gate)
             self.assertIs(type(told), list)
-            self.assertEqual(told, [word for word in helper.WORDS if holds(gate, word)], gate)
+            self.assertEqual(told, [word for word in helper.WORDS if helper.holds(gate, word)], gate)
 
 
 class Witnesses(unittest.TestCase):
@@ -190,7 +165,7 @@ class Witnesses(unittest.TestCase):
     def test_none_just_where_the_gate_is_in_the_class(self):
         for gate in helper.all_gates():
             for word in helper.WORDS:
-                self.assertEqual(gates.witness(gate, word) is None, holds(gate, word), (gate, word))
+                self.assertEqual(gates.witness(gate, word) is None, helper.holds(gate, word), (gate, word))
 
     def test_a_witness_shows_that_the_gate_is_not_in_the_class(self):
         for gate in helper.all_gates():
